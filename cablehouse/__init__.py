@@ -1,0 +1,1 @@
+"""Cablehouse: a house that sends words by wire in code."""
