@@ -3,6 +3,7 @@ import unittest
 
 from cablehouse.codes import Code, is_good, unsafe_pair
 from cablehouse.weights import are_safe
+from plain import a_fault_apart, plainly_good, words_of
 from refusals import check_refused
 
 THREE = "cab"
@@ -11,29 +12,6 @@ FIVE = "exilk"
 ODD_MOST = "qwertyuiopasdfghjklzxcvbn"
 MOST = "mnbvcxzlkjhgfdsapoiuytrewq"
 OTHER_KINDS = (None, True, False, 1.0, b"cab", ["c", "a", "b"], ("c", "a", "b"), {"c": 0}, {"cab"}, object(), str)
-
-
-def plainly_good(alphabet, weights, rest, word):
-    total = 0
-    for at, letter in enumerate(word):
-        total += alphabet.index(letter) * weights[at]
-    return (total - rest) % len(alphabet) == 0
-
-
-def words_of(alphabet, length):
-    """All words in the order of their letters' places."""
-    return ["".join(letters) for letters in itertools.product(alphabet, repeat=length)]
-
-
-def a_fault_apart(one, other):
-    """Whether a letter exchanged, or two unlike neighbours exchanged, makes one word of the other."""
-    unlike = [at for at in range(len(one)) if one[at] != other[at]]
-    if len(one) != len(other) or len(unlike) not in (1, 2):
-        return False
-    if len(unlike) == 1:
-        return True
-    left, right = unlike
-    return right == left + 1 and one[left] == other[right] and one[right] == other[left]
 
 
 def has_unsafe_pair(alphabet, weights, rest):
