@@ -48,12 +48,12 @@ def is_torn(code, thing):
     return is_word(code.alphabet() + GAP, len(code.weights()), thing)
 
 
-def with_each(lists, at, m):
-    """Of each list of places the m lists that have one place after the other at a gap."""
+def with_each(lists, at, choices):
+    """Of each list all that have one of the choices at a place, in the order of both."""
     made = []
-    for places in lists:
-        for place in range(m):
-            made.append(places[:at] + [place] + places[at + 1:])
+    for numbers in lists:
+        for choice in choices:
+            made.append(numbers[:at] + [choice] + numbers[at + 1:])
     return made
 
 
@@ -67,7 +67,7 @@ def fitting(code, torn):
     gaps = [at for at, sign in enumerate(torn) if sign == GAP]
     begun = [[0 if sign == GAP else alphabet.index(sign) for sign in torn]]
     for gap in gaps[:-1]:
-        begun = with_each(begun, gap, m)
+        begun = with_each(begun, gap, list(range(m)))
     # No weight has a divisor in common with m, so whatever the other letters come to,
     # just one letter in the last gap makes the word good.
     last = gaps[-1]
