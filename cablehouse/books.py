@@ -36,13 +36,13 @@ class Book:
 
     def put(self, entry, number=None):
         """Put an entry in by a number, or by the least free one; the number is told."""
-        given = self.choose(entry, number, {})
+        given = self.choose(entry, number, lambda k: False)
         self.by_number[given] = entry
         self.by_entry[entry] = given
         return given
 
-    def choose(self, entry, number, barred):
-        """The number by which `put` would put an entry in, were the keys of the dict `barred` not free."""
+    def choose(self, entry, number, is_barred):
+        """The number by which `put` would put an entry in, were those not free of which `is_barred` is true."""
         if not is_entry(entry):
             raise NoEntry("this is no entry")
         if entry in self.by_entry:
@@ -50,16 +50,16 @@ class Book:
         if number is not None:
             if not is_below(number, self.basis.many()):
                 raise NoNumber("no good word has this number")
-            if number in self.by_number or number in barred:
+            if number in self.by_number or is_barred(number):
                 raise NoNumber("this number is not free")
         if len(self.by_number) >= MOST_ENTRIES:
             raise TooMany("a book has at most 300 entries")
-        return self.least_free(barred) if number is None else number
+        return self.least_free(is_barred) if number is None else number
 
-    def least_free(self, barred):
-        """The least number that is neither taken nor a key of the dict `barred`."""
+    def least_free(self, is_barred):
+        """The least number that is neither taken nor barred."""
         k = 0
-        while k in self.by_number or k in barred:
+        while k in self.by_number or is_barred(k):
             k = k + 1
         if k >= self.basis.many():
             raise TooMany("no number is free")

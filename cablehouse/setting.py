@@ -5,13 +5,6 @@ from cablehouse.errors import NoSetting, NoText
 from cablehouse.saying import is_text
 
 
-def shorter(one, other):
-    """The shorter of two lists, each perhaps None; the first one where they are alike."""
-    if one is None:
-        return other
-    return one if other is None or len(one) <= len(other) else other
-
-
 def fewest(many, longest, step):
     """For each number from 0 to `many` the fewest groups that come so far, or None where none do.
 
@@ -23,8 +16,8 @@ def fewest(many, longest, step):
         found = None
         for begin in range(max(0, behind - longest), behind):
             added = None if best[begin] is None else step(begin, behind)
-            if added is not None:
-                found = shorter(found, best[begin] + added)
+            if added is not None and (found is None or len(best[begin]) + len(added) < len(found)):
+                found = best[begin] + added
         best.append(found)
     return best
 
